@@ -1,0 +1,1 @@
+"""Askwright: things made by rules that ask, and all kept runs as trees of asks."""
