@@ -21,6 +21,7 @@ METHODS = set("""append clear copy count endswith extend find get index insert i
     setdefault split splitlines startswith strip update upper values zfill bit_length""".split())
 BANNED_WORDS = """type typing typing_extensions enum Enum IntEnum StrEnum Flag IntFlag Generic Protocol ABC ABCMeta
     namedtuple NamedTuple TypedDict TYPE_CHECKING abstractmethod""".split()
+FREE_VALUES = set("count index title find get join lower upper split strip copy add".split())
 SPECIAL = ("__init__", "__eq__", "__repr__", "__str__", "__len__")
 WALKED = ("zip", "enumerate", "reversed", "range")
 
@@ -192,6 +193,9 @@ class Language(unittest.TestCase):
             values |= {node.attr for node in ast.walk(tree)
                        if isinstance(node, ast.Attribute) and isinstance(node.ctx, ast.Store)}
         self.assertEqual(methods & values, set())
+        taken = set().union(*[dir(kind) for kind in (str, int, list, tuple, dict, set, bytes)])
+        self.assertEqual(methods & taken - METHODS - set(SPECIAL) - {"add", "discard"}, set())
+        self.assertEqual(values & taken - FREE_VALUES, set())
         self.check_called_methods(methods)
 
     def check_called_methods(self, methods):
