@@ -26,6 +26,10 @@ class AskTree:
             raise BadKeep("what is put is no run")
         if not are_givers(givers):
             raise BadKeep("givers are a rising tuple of numbers from 0 to 99")
+        self.lay(run, givers)
+
+    def lay(self, run, givers):
+        # What is known to be a run is not looked at again; nor is the number of a house, which nothing bounds.
         if self.beginning is None:
             self.beginning = branch(run, givers, 0)
             return

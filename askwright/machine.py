@@ -206,14 +206,21 @@ def replayed(rule, own, answers):
     return (machine.asked(), machine.now(), len(answers) - used)
 
 
+def asks_that_stand(machine, asks):
+    # How many of these asks, from the first on, the machine asks and takes their answers; it goes on by them.
+    for count, pair in enumerate(asks):
+        if machine.now() != ("asks", pair[0]):
+            return count
+        try:
+            machine.answer(pair[1])
+        except BadAnswer:
+            return count
+    return len(asks)
+
+
 def does(rule, own, run):
     machine = Machine(rule, own)
-    for ask, answer in run[0]:
-        if machine.now() != ("asks", ask):
-            return False
-        try:
-            machine.answer(answer)
-        except BadAnswer:
-            return False
+    if asks_that_stand(machine, run[0]) < len(run[0]):
+        return False
     # A machine that still waits has no end, whatever the run says.
     return not machine.is_waiting() and machine.now() == run[1]

@@ -7,13 +7,14 @@ from askwright.trees import is_name
 
 
 class Going:
-    # One thing's full run, as far as it has come.
+    # One thing's full run, as far as it has come; the order it is gone through in gives it its runner.
 
-    def __init__(self, name, source):
+    def __init__(self, name, source, order):
         self.name = name
+        self.order = order
         self.made_by = None
         self.rule_asks = ()
-        self.machine = None
+        self.rule_run = None
         self.end = None
         if source[0] == "made":
             self.made_by = source[1]
@@ -26,28 +27,28 @@ class Going:
         elif not is_rule(rule):
             self.end = ("fault", "rule")
         else:
-            self.machine = Machine(rule, self.name)
+            self.rule_run = self.order.runner(rule, self.name)
             self.look()
 
     def look(self):
-        if not self.machine.is_waiting():
-            self.end = self.machine.now()
+        if not self.rule_run.is_waiting():
+            self.end = self.rule_run.now()
 
     def wanted(self):
-        if self.machine is None:
+        if self.rule_run is None:
             return ("rule", self.made_by)
-        return self.machine.now()[1]
+        return self.rule_run.now()[1]
 
     def take(self, answer):
-        if self.machine is None:
+        if self.rule_run is None:
             self.rule_asks = ((("rule", self.made_by), answer),)
             self.begin(answer)
         else:
-            self.machine.answer(answer)
+            self.rule_run.answer(answer)
             self.look()
 
     def full(self):
-        asks = () if self.machine is None else self.machine.asked()
+        asks = () if self.rule_run is None else self.rule_run.asked()
         return (self.rule_asks + asks, self.end)
 
 
@@ -55,13 +56,18 @@ class PlainOrder:
     # Things gone through from a name on, with a stack of its own in the stead of calls within calls.
 
     def __init__(self, project):
+        self.begin_anew(project)
+
+    def begin_anew(self, project):
         self.given_project = project
         self.stack = []
         self.under_way = {}
         self.full_runs = {}
+        self.found = {}
 
     def go_through(self, name):
-        self.enter(name)
+        if self.answer_yet(name) is None:
+            self.enter(name)
         while self.stack:
             top = self.stack[-1]
             missing = self.go_on(top)
@@ -69,14 +75,22 @@ class PlainOrder:
                 self.stack.pop()
                 self.under_way.pop(top.name)
                 self.full_runs[top.name] = top.full()
+                self.found[top.name] = answer_by(top.end)
+                self.leave(top)
             else:
                 self.enter(missing)
 
     def enter(self, name):
-        source = self.given_project.source_of(name)
-        if has_run(source):
-            self.stack.append(Going(name, source))
-            self.under_way[name] = True
+        self.stack.append(Going(name, self.given_project.source_of(name), self))
+        self.under_way[name] = True
+
+    def runner(self, rule, own):
+        # What runs a rule: a machine, or what stands in for one.
+        return Machine(rule, own)
+
+    def leave(self, going):
+        # For those who keep or tell something of each thing that ends.
+        pass
 
     def go_on(self, going):
         # Up to its end, None, or to the name of a thing that must be gone through first.
@@ -85,7 +99,7 @@ class PlainOrder:
             if ask[0] in ("has", "names"):
                 going.take(self.given_project.looked_up(ask))
                 continue
-            answer = self.answer(ask[1])
+            answer = self.answer_yet(ask[1])
             if answer is None:
                 return ask[1]
             if answer[0] == "value":
@@ -96,37 +110,45 @@ class PlainOrder:
                 going.end = ("stuck", ask[1])
         return None
 
-    def answer(self, name):
-        # None where it is not known yet. What is met while it is gone through itself can't have a value.
-        source = self.given_project.source_of(name)
-        if source is None:
-            return ("lack",)
-        if source[0] == "leaf":
-            return ("value", source[1])
-        if name in self.full_runs:
-            return answer_by(self.full_runs[name][1])
-        return ("ring",) if name in self.under_way else None
+    def answer_yet(self, name):
+        # None where it must be gone through first. What is met while it is gone through itself can't have a value.
+        if name in self.under_way:
+            return ("ring",)
+        at_once = answer_at_once(self.given_project.source_of(name))
+        if at_once is not None:
+            self.found[name] = at_once
+        return self.found.get(name)
+
+
+def answer_at_once(source):
+    # That of a leaf or a lack; None of what has a full run.
+    if source is None:
+        return ("lack",)
+    return ("value", source[1]) if source[0] == "leaf" else None
 
 
 def has_run(source):
-    # Leaves and lacks are answered at once, without one.
-    return source is not None and source[0] != "leaf"
+    return answer_at_once(source) is None
 
 
 def answer_by(end):
     return ("value", end[1]) if end[0] == "said" else end
 
 
-def order_from(project, name):
+def check_name(name):
     if not is_name(name):
         raise BadName("a thing is asked for by a name")
+
+
+def order_from(project, name):
+    check_name(name)
     order = PlainOrder(project)
     order.go_through(name)
     return order
 
 
 def answer_of(project, name):
-    return order_from(project, name).answer(name)
+    return order_from(project, name).answer_yet(name)
 
 
 def full_run(project, name):
@@ -143,7 +165,7 @@ def value_of(project, name):
 
 def chain_of(project, name):
     order = order_from(project, name)
-    answer = order.answer(name)
+    answer = order.answer_yet(name)
     if answer[0] in ("value", "lack"):
         return ((), ())
     names = [name]
@@ -152,7 +174,7 @@ def chain_of(project, name):
         if after in names:
             return (tuple(names), tuple(names[names.index(after):]))
         names.append(after)
-        answer = order.answer(after)
+        answer = order.answer_yet(after)
     return (tuple(names), ())
 
 

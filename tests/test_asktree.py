@@ -7,6 +7,7 @@ from askwright.asktree import AskTree, clash_of, first_clash
 from askwright.errors import BadKeep, Clash
 from askwright.machine import Machine
 from askwright.trees import is_ahead
+from helpers import run_of, runs_in
 
 X = ("thing", "x")
 Y = ("thing", "y")
@@ -16,19 +17,11 @@ SAID = ("said", "v")
 OTHER_KINDS = (None, True, 4, "", "x", [], {}, set(), object())
 
 
-def run_of(end, *asks):
-    return (asks, end)
-
-
 def tree_with(*runs):
     tree = AskTree()
     for run in runs:
         tree.put(run, ())
     return tree
-
-
-def runs_in(tree):
-    return tuple(run for run, givers in tree.ways())
 
 
 class Put(unittest.TestCase):

@@ -8,24 +8,7 @@ from askwright.machine import Machine
 from askwright.plain import answer_of, chain_of, full_run, met_by, value_of
 from askwright.project import Project
 from askwright.rules import is_rule
-
-NO_NAMES = ("", "A", "1a", "a b", "x" * 25, None, 4, True, ["a"], ("a",))
-
-
-def asks_for(*names):
-    """A rule that asks for each of these and says the row of what it got."""
-    lines = ["row a"]
-    for name in names:
-        lines += [f"text b {name}", "ask c b", "put a c"]
-    return ("rule", tuple(lines) + ("say a",))
-
-
-def passes_on(name):
-    return ("rule", (f"text b {name}", "ask a b", "say a"))
-
-
-def project_of(**sources):
-    return Project(tuple(sources.items()))
+from helpers import NO_NAMES, asks_for, passes_on, project_of, some_project
 
 
 class Leaves(unittest.TestCase):
@@ -223,33 +206,6 @@ class Order(unittest.TestCase):
     def test_rules_are_gone_through_first(self):
         project = project_of(a=("made", "r"), r=("rule", ("row a", "text b fault", "put a b", "say a")), b=asks_for("a"))
         self.assertEqual(met_by(project, "b"), ("r", "a", "b"))
-
-
-def some_project(chance):
-    names = [f"n{number}" for number in range(chance.randrange(2, 9))]
-    pairs = [(name, some_source(chance, names)) for name in names if chance.random() < 0.9]
-    return names, Project(tuple(pairs))
-
-
-def some_source(chance, names):
-    kind = chance.choice(("leaf", "leaf rule", "made", "rule", "rule", "rule"))
-    if kind == "made":
-        return ("made", chance.choice(names))
-    if kind == "leaf rule":
-        return ("leaf", some_rule(chance, names))
-    if kind == "leaf":
-        return ("leaf", chance.choice(("", "x", (), ("x",), names[0])))
-    return ("rule", some_rule(chance, names))
-
-
-def some_rule(chance, names):
-    lines = []
-    for step in range(chance.randrange(1, 4)):
-        name = chance.choice(names)
-        lines.append(f"text b {name}")
-        lines.append(chance.choice(("ask a b", "ask c b", "has a b", "names a b")))
-        lines.append(chance.choice(("row d", "none a 1", "rowed a 3", "size c a", "ask a a", "self b")))
-    return tuple(lines) + (chance.choice(("say a", "say a", "say c", "fault", "nothing")),)
 
 
 def plain_step(project, values, name):
