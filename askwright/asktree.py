@@ -69,6 +69,15 @@ class AskTree:
             node = node.edges[answer]
         return (tuple(gone), None if node is None else node.there)
 
+    def first_way(self, answers):
+        # The least way by these answers, with its givers; they are such as a walk takes all of.
+        node = self.beginning
+        for answer in answers:
+            node = node.edges[answer]
+        while node.way is None:
+            node = node.edges[min(node.edges, key=answer_key)]
+        return (node.way, node.givers)
+
     def take_out(self, run):
         if not is_run(run):
             raise BadKeep("what is taken out is no run")

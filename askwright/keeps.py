@@ -46,6 +46,9 @@ class Keep:
     def walk(self, rule, own, answers):
         return self.tree_at(rule, own).walk(answers)
 
+    def first_way(self, rule, own, answers):
+        return self.tree_at(rule, own).first_way(answers)
+
     def take_out(self, rule, own, run):
         tree = self.tree_at(rule, own)
         tree.take_out(run)

@@ -1,5 +1,8 @@
 """What several tests make their projects, rules and runs with."""
 
+from askwright.errors import Clash
+from askwright.house import way_of
+from askwright.keeps import Keep
 from askwright.plain import full_run
 from askwright.project import Project, with_source, without
 from askwright.rules import is_rule
@@ -62,6 +65,13 @@ def run_of(end, *asks):
     return (asks, end)
 
 
+def keep_of(*ways):
+    keep = Keep()
+    for rule, own, run, givers in ways:
+        keep.put(rule, own, run, givers)
+    return keep
+
+
 def runs_in(tree):
     return tuple(run for run, givers in tree.ways())
 
@@ -95,3 +105,33 @@ def plain_deed(project, name, keep):
     if kept:
         return ("stuck" if end[0] == "stuck" else "used", name, gone)
     return ("left" if end[0] == "stuck" else "done", name, gone, len(asks))
+
+
+def turned_run(chance, run, names):
+    """A run put otherwise at some place, still one that may be kept; perhaps a lie."""
+    asks, end = run
+    place = chance.randrange(len(asks) + 1)
+    name = chance.choice(names)
+    fresh = chance.choice(((("thing", name), chance.choice((None, "x", ("x",)))), (("has", name), "no"),
+                           (("names", name), (name,))))
+    end = chance.choice((end, end, ("said", "lie"), ("fault", "told")))
+    return chance.choice(((asks, ("said", "lie")), (asks[:place], end), (asks[:place] + (fresh,) + asks[place:], end),
+                          (asks[:place] + (fresh,) + asks[place + 1:], end), (asks[:place] + asks[place + 1:], end),
+                          (asks + (fresh,), end), (asks[:place] + asks[place:][::-1], end)))
+
+
+def some_keep(chance, project, names):
+    """Ways of a project's things, honest ones and others, with some givers; what clashes is left out."""
+    keep = Keep()
+    for name in chance.choices(names, k=3 * len(names)):
+        way = way_of(project, name)
+        if way is None:
+            continue
+        rule, own, run = way
+        if chance.random() < 0.6:
+            run = turned_run(chance, run, names)
+        try:
+            keep.put(rule, own, run, tuple(sorted(chance.sample(range(100), chance.randrange(3)))))
+        except Clash:
+            pass
+    return keep

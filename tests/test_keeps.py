@@ -7,7 +7,7 @@ from askwright.asktree import AskTree
 from askwright.errors import BadKeep, BadName, BadRule, Clash
 from askwright.house import way_of
 from askwright.keeps import Keep, clashes, laid_on
-from helpers import NO_NAMES, run_of, runs_in, some_project, ways_in
+from helpers import NO_NAMES, keep_of, run_of, runs_in, some_project, ways_in
 
 RULE = ("text b x", "ask a b", "say a")
 SHORT = ("say a",)
@@ -18,13 +18,6 @@ OTHER = ("said", "w")
 ONE = run_of(SAID, (X, "a"))
 TWO = run_of(SAID, (X, "b"))
 NO_RULES = (None, 4, True, "", "say a", (), ("say",), ["say a"], ("say a", ("say a",)), {})
-
-
-def keep_of(*ways):
-    keep = Keep()
-    for rule, own, run, givers in ways:
-        keep.put(rule, own, run, givers)
-    return keep
 
 
 class Keeps(unittest.TestCase):
