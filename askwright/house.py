@@ -2,7 +2,7 @@
 
 from askwright.errors import Clash
 from askwright.machine import Machine, asks_that_stand
-from askwright.plain import PlainOrder, check_name, has_run, order_from
+from askwright.plain import PlainOrder, check_name, check_names, has_run, order_from
 from askwright.rules import is_rule
 
 
@@ -44,40 +44,16 @@ class KeptRun:
             self.begun_with = len(self.gone)
 
 
-class House(PlainOrder):
+class KeptOrder(PlainOrder):
+    # Things gone by what is kept of them, and their runs kept.
+
     def __init__(self, project, keep, number):
         PlainOrder.__init__(self, project)
         self.held = keep.copy()
         self.number = number
-        self.told = []
-
-    def answer(self, name):
-        check_name(name)
-        self.go_through(name)
-        return self.answer_yet(name)
-
-    def answers(self, names):
-        for name in names:
-            check_name(name)
-        return tuple([self.answer(name) for name in names])
-
-    def project(self):
-        return self.given_project
 
     def keep(self):
         return self.held.copy()
-
-    def set_project(self, project):
-        self.begin_anew(project)
-
-    def set_keep(self, keep):
-        self.held = keep.copy()
-
-    def deeds(self):
-        return tuple(self.told)
-
-    def known(self, name):
-        return name in self.found
 
     def runner(self, rule, own):
         return KeptRun(self, rule, own)
@@ -88,9 +64,13 @@ class House(PlainOrder):
 
     def leave(self, going):
         deed = deed_of(going)
-        self.told.append(deed)
+        self.tell(deed)
         if deed[0] == "done":
             self.keep_run(going.rule_run.rule, going.name, (going.rule_run.asked(), going.end))
+
+    def tell(self, deed):
+        # For those who tell of all that they did.
+        pass
 
     def keep_run(self, rule, own, run):
         try:
@@ -103,6 +83,39 @@ class House(PlainOrder):
     def trust(self, rule, own, run):
         # For houses that look at the ways of others, and need not look at this one.
         pass
+
+
+class House(KeptOrder):
+    def __init__(self, project, keep, number):
+        KeptOrder.__init__(self, project, keep, number)
+        self.told = []
+
+    def tell(self, deed):
+        self.told.append(deed)
+
+    def answer(self, name):
+        check_name(name)
+        self.go_through(name)
+        return self.answer_yet(name)
+
+    def answers(self, names):
+        check_names(names)
+        return tuple([self.answer(name) for name in names])
+
+    def project(self):
+        return self.given_project
+
+    def set_project(self, project):
+        self.begin_anew(project)
+
+    def set_keep(self, keep):
+        self.held = keep.copy()
+
+    def deeds(self):
+        return tuple(self.told)
+
+    def known(self, name):
+        return name in self.found
 
 
 def deed_of(going):
@@ -121,12 +134,17 @@ def runs_done(deeds):
 
 
 def way_of(project, name):
-    source = project.source_of(name)
-    if not has_run(source):
+    if not has_run(project.source_of(name)):
         return None
-    run = order_from(project, name).full_runs[name]
+    return way_in(order_from(project, name), name)
+
+
+def way_in(order, name):
+    # Of what an order has gone through, as way_of tells it.
+    run = order.full_runs[name]
     if run[1][0] == "stuck":
         return None
+    source = order.given_project.source_of(name)
     if source[0] == "rule":
         return way_by(source[1], name, run)
     # What made it stands at the first of its asks.

@@ -74,15 +74,18 @@ class PlainOrder:
             if missing is None:
                 self.stack.pop()
                 self.under_way.pop(top.name)
-                self.full_runs[top.name] = top.full()
-                self.found[top.name] = answer_by(top.end)
-                self.leave(top)
+                self.settle(top)
             else:
                 self.enter(missing)
 
     def enter(self, name):
         self.stack.append(Going(name, self.given_project.source_of(name), self))
         self.under_way[name] = True
+
+    def settle(self, going):
+        self.full_runs[going.name] = going.full()
+        self.found[going.name] = answer_by(going.end)
+        self.leave(going)
 
     def runner(self, rule, own):
         # What runs a rule: a machine, or what stands in for one.
@@ -140,10 +143,20 @@ def check_name(name):
         raise BadName("a thing is asked for by a name")
 
 
+def check_names(names):
+    for name in names:
+        check_name(name)
+
+
 def order_from(project, name):
-    check_name(name)
+    return order_over(project, (name,))
+
+
+def order_over(project, names):
+    check_names(names)
     order = PlainOrder(project)
-    order.go_through(name)
+    for name in names:
+        order.go_through(name)
     return order
 
 

@@ -61,6 +61,39 @@ def some_change(chance, project, names):
     return with_source(project, name, some_source(chance, names))
 
 
+def layered_project(chance):
+    """A project most of whose things ask for earlier ones, so that most have values."""
+    names = [f"n{number}" for number in range(chance.randrange(4, 10))]
+    return names, Project(tuple((name, layered_source(chance, names, name)) for name in names if chance.random() < 0.9))
+
+
+def layered_source(chance, names, name):
+    earlier = names[:names.index(name)]
+    if not earlier or chance.random() < 0.2:
+        return ("leaf", chance.choice(("", "x", "y", ("x",), ("say a",), ("self a", "say a"), names[0])))
+    if chance.random() < 0.15:
+        return ("made", chance.choice(earlier))
+    return ("rule", layered_rule(chance, earlier if chance.random() < 0.9 else names))
+
+
+def layered_rule(chance, names):
+    lines = ["row a"]
+    for step in range(chance.randrange(1, 4)):
+        lines.append(f"text b {chance.choice(names)}")
+        lines.append(chance.choice(("ask c b", "ask c b", "ask c b", "has c b", "names c b")))
+        lines.append(chance.choice(("put a c", "put a c", "size d c", "none c END", "rowed c END", "put a b")))
+    lines.append(chance.choice(("say a", "say a", "say c", "fault", "self a")))
+    lines.append("say a")
+    return tuple(line.replace("END", str(len(lines))) for line in lines)
+
+
+def layered_change(chance, project, names):
+    name = chance.choice(names)
+    if project.source_of(name) is not None and chance.random() < 0.2:
+        return without(project, name)
+    return with_source(project, name, layered_source(chance, names, name))
+
+
 def run_of(end, *asks):
     return (asks, end)
 
@@ -105,6 +138,23 @@ def plain_deed(project, name, keep):
     if kept:
         return ("stuck" if end[0] == "stuck" else "used", name, gone)
     return ("left" if end[0] == "stuck" else "done", name, gone, len(asks))
+
+
+def has_rule(project, name):
+    """Whether a thing goes on by stretches: a rule's or made one."""
+    return (project.source_of(name) or ("none",))[0] in ("rule", "made")
+
+
+def next_news(project, name, ended):
+    """What a thing's stretch tells where just these have ended, told by its full run."""
+    asks, end = full_run(project, name)
+    wanted = [ask[1] for ask, answer in asks if ask[0] in ("thing", "rule")]
+    if end[0] == "stuck":
+        wanted.append(end[1])
+    for other in wanted:
+        if has_rule(project, other) and other not in ended:
+            return ("waits", other)
+    return ("ended", end)
 
 
 def turned_run(chance, run, names):
